@@ -1,0 +1,1 @@
+"""Stampsheet: sheets of stamps, and the pieces that are torn out of them."""

@@ -1,0 +1,8 @@
+"""What every part of the program asks of numbers, told once."""
+
+
+def is_whole(thing, lowest, highest):
+    # To isinstance True and False are whole numbers; here they are none.
+    if isinstance(thing, bool) or not isinstance(thing, int):
+        return False
+    return lowest <= thing <= highest

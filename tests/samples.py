@@ -1,0 +1,81 @@
+"""Sheets and wrong things that several tests hand in."""
+
+ONE = ((7,),)
+ROW = ((1, 2, 3, 4, 5),)
+COLUMN = ((1,), (2,), (3,), (4,), (5,))
+SQUARE = ((1, 2), (3, 4))
+NINE = ((1, 2, 3), (4, 5, 6), (7, 8, 9))
+TWELVE = ((1, 2, 3, 4), (5, 6, 7, 8), (9, 10, 11, 12))
+ENDS = ((1, 9999),)
+RING = ((1, 1, 1), (1, None, 1), (1, 1, 1))
+APART = ((5, None, 6), (None, None, 7), (8, None, None))
+# Five by five, twelve stamps, none near another.
+SPREAD = (
+    (None, 1, None, 2, None),
+    (3, None, 4, None, 5),
+    (None, 6, None, 7, None),
+    (8, None, 9, None, 10),
+    (None, 11, None, 12, None),
+)
+
+SHEETS = [ONE, ROW, COLUMN, SQUARE, NINE, TWELVE, ENDS, RING, APART, SPREAD]
+
+
+class EqualToAll:
+    """Equal to whatever it is compared with, and not to be hashed, measured or written."""
+
+    __hash__ = None
+
+    def __eq__(self, other):
+        return True
+
+    def __len__(self):
+        raise RuntimeError("not to be measured")
+
+    def __repr__(self):
+        raise RuntimeError("not to be written")
+
+
+# Python refuses to write a number of so many digits as a text.
+HUGE = 10 ** 5000
+
+OF_ANY_KIND = [
+    None, True, False, -1, 1.0, 0.5, float("nan"), 1j, HUGE, -HUGE, "", "1", "sheet", b"1",
+    [], {}, set(), (), [1], {1: 1}, (1,), (None,), ((),), ([],), ([1],), ("1",), (EqualToAll(),),
+    object(), EqualToAll(), len, int, range(2), iter([1]), ValueError("1"),
+]
+
+NO_SHEETS = OF_ANY_KIND + [
+    [(1, 2), (3, 4)],
+    ([1, 2], [3, 4]),
+    ((1, 2), [3, 4]),
+    ((1,),) * 6,
+    ((1, 2), (3,)),
+    ((1,), (2, 3)),
+    ((1, 2), ()),
+    ((), ()),
+    ((1, 2, 3, 4, 5, 6),),
+    ((1, None, None, None, None, None),),
+    ((1,), (None,), (None,), (None,), (None,), (None,)),
+    ((0,),), ((-1,),), ((10000,),), ((HUGE,),),
+    ((True,),), ((False,),), ((1, True),), ((1.0,),), (("1",),), ((".",),),
+    ((1, "2"),), ((1, []),), (((1,),),), ((EqualToAll(),),), ((1, EqualToAll()),),
+    ((None,),), ((None, None), (None, None)),
+    ("1", "2"), ("12",), {(0, 0): 1}, 1, 12,
+    ((1, 1, 1, 1, 1), (1, 1, 1, 1, 1), (1, 1, 1, None, None)),
+    SPREAD[:4] + ((13, 11, None, 12, None),),
+    ((1,) * 5,) * 5,
+]
+
+# For APART: a hole at (0, 1), three rows, three columns.
+NO_CELLS_OF_APART = OF_ANY_KIND + [
+    (0, 1), (1, 1), (2, 2),
+    (3, 0), (0, 3), (3, 3), (HUGE, 0), (0, HUGE),
+    (-1, 0), (0, -1), (-1, -1), (-3, 0), (0, -3),
+    (True, 2), (False, 0), (0, False), (False, False), (2, False),
+    [0, 0], (0,), (0, 0, 0), ((0, 0),), (0, (0,)),
+    ("0", "0"), "00", (0, "0"), (0.0, 0), (0, 0.0), (0, None), (None, 0), (None, None), (0, [0]),
+    (EqualToAll(), EqualToAll()), (0, EqualToAll()), 0, 1,
+]
+
+NO_NUMBERS = OF_ANY_KIND + [0, 13, 14, -12, "12", "3", (3,), [3], 3.0, 12.0]
