@@ -70,8 +70,12 @@ def stamps(sheet):
     return stamp_cells(checked(sheet))
 
 
-def near(sheet, cell):
-    checked(sheet)
+def checked_cell(sheet, cell):
     if not is_cell(sheet, cell):
         raise NoCell("this is no cell of a stamp of the sheet")
-    return near_cells(sheet, cell)
+    return cell
+
+
+def near(sheet, cell):
+    checked(sheet)
+    return near_cells(sheet, checked_cell(sheet, cell))

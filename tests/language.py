@@ -11,7 +11,7 @@ import re
 PACKAGE = "stampsheet"
 
 PYTHONS_OWN = """len range enumerate zip min max sum abs sorted reversed int str bool list tuple dict
-isinstance ord repr any all divmod Exception ValueError TypeError KeyError IndexError LookupError
+set isinstance ord repr any all divmod Exception ValueError TypeError KeyError IndexError LookupError
 ZeroDivisionError ArithmeticError OverflowError RuntimeError NotImplementedError StopIteration""".split()
 
 METHODS = """append clear copy count endswith extend find get index insert isalnum isalpha isdigit islower
@@ -167,6 +167,40 @@ def is_called_or_asked(node, parent):
     return isinstance(parent, ast.Tuple) and node.id in KINDS
 
 
+def is_set_call(node):
+    return isinstance(node, ast.Call) and getattr(node.func, "id", "") == "set"
+
+
+def set_calls(node):
+    """The calls of set that an expression is made of, if it is made of them alone."""
+    if is_set_call(node):
+        return [node]
+    if isinstance(node, ast.BinOp) and isinstance(node.op, (ast.Sub, ast.BitAnd, ast.BitOr, ast.BitXor)):
+        left = set_calls(node.left)
+        right = set_calls(node.right)
+        return left + right if left and right else []
+    return []
+
+
+def used_on_the_spot(node):
+    if isinstance(node, ast.Call) and getattr(node.func, "id", "") in ("sorted", "len") and not node.keywords:
+        return [call for part in node.args for call in set_calls(part)]
+    if isinstance(node, ast.Compare) and len(node.ops) == 1:
+        left = set_calls(node.left)
+        right = set_calls(node.comparators[0])
+        if isinstance(node.ops[0], (ast.In, ast.NotIn)):
+            return right
+        if isinstance(node.ops[0], (ast.Eq, ast.NotEq)) and left and right:
+            return left + right
+    return []
+
+
+def of_sets(tree):
+    used = [call for node in ast.walk(tree) for call in used_on_the_spot(node)]
+    if any(is_set_call(node) and node not in used for node in ast.walk(tree)):
+        yield "L24 set"
+
+
 def of_expression(node, parent, known):
     if isinstance(node, ast.Constant):
         if node.value is not None and not isinstance(node.value, (int, str)):
@@ -229,7 +263,7 @@ def findings(text, files, own_errors=()):
     own = bound_at_top(tree) + imported(tree)
     methods = [node.name for file in files.values() for node in ast.walk(file) if isinstance(node, ast.FunctionDef)]
     known = [node.name for node in tree.body if isinstance(node, ast.ClassDef)] + imported(tree)
-    found = list(of_text(text)) + list(of_top(tree, files))
+    found = list(of_text(text)) + list(of_top(tree, files)) + list(of_sets(tree))
     for parent in ast.walk(tree):
         for node in ast.iter_child_nodes(parent):
             if not isinstance(node, ALLOWED):

@@ -1,6 +1,7 @@
 """What the document says, searched for in the plainest way, to compare with."""
 
-from itertools import combinations, product
+from functools import cache
+from itertools import combinations, count, product
 
 
 def plain_stamps(sheet):
@@ -35,8 +36,84 @@ def choices(sheet):
         yield from combinations(cells, many)
 
 
+def all_sheets(rows, columns, places):
+    """All sheets of this size with one of these places everywhere."""
+    for chosen in product(places, repeat=rows * columns):
+        if any(chosen):
+            yield tuple(chosen[row * columns:(row + 1) * columns] for row in range(rows))
+
+
 def all_patterns(rows, columns):
     """All sheets of this size, with worth 1 for each stamp; each way to leave holes."""
-    for places in product((1, None), repeat=rows * columns):
-        if any(places):
-            yield tuple(places[row * columns:(row + 1) * columns] for row in range(rows))
+    return all_sheets(rows, columns, (1, None))
+
+
+def plain_pieces(sheet):
+    return [cells for cells in choices(sheet) if hang_together(cells)]
+
+
+def plain_worth(sheet, cells):
+    total = 0
+    for row, column in cells:
+        total += sheet[row][column]
+    return total
+
+
+def plain_worths(sheet, most):
+    return sorted({plain_worth(sheet, cells) for cells in plain_pieces(sheet) if len(cells) <= most})
+
+
+def plain_missing(sheet, most):
+    had = plain_worths(sheet, most)
+    return next(number for number in count(1) if number not in had)
+
+
+def with_place(sheet, cell, place):
+    rows = [list(row) for row in sheet]
+    rows[cell[0]][cell[1]] = place
+    return tuple(tuple(row) for row in rows)
+
+
+def plain_needless(sheet):
+    cells = plain_stamps(sheet)
+    if len(cells) == 1:
+        return []
+    missing = plain_missing(sheet, 12)
+    return [cell for cell in cells if not plain_missing(with_place(sheet, cell, None), 12) < missing]
+
+
+def partings(cells):
+    """All ways to put each of the cells into one of some groups."""
+    if not cells:
+        yield []
+        return
+    for parting in partings(cells[:-1]):
+        for place, group in enumerate(parting):
+            yield parting[:place] + [group + (cells[-1],)] + parting[place + 1:]
+        yield parting + [(cells[-1],)]
+
+
+def plain_tears(sheet, parts):
+    pairs = [pair for pair in combinations(plain_stamps(sheet), 2) if are_near(*pair)]
+    return sum(not any(one in part and other in part for part in parts) for one, other in pairs)
+
+
+@cache
+def plain_plans(sheet):
+    """For each rising tuple of worths that the sheet can be torn into the fewest tears for it."""
+    fewest = {}
+    for parts in partings(plain_stamps(sheet)):
+        if all(hang_together(part) for part in parts):
+            wants = tuple(sorted(plain_worth(sheet, part) for part in parts))
+            torn = plain_tears(sheet, parts)
+            fewest[wants] = min(torn, fewest.get(wants, torn))
+    return fewest
+
+
+def sums(total, least=1):
+    """All rising tuples of numbers that have this sum."""
+    if total == 0:
+        yield ()
+    for number in range(least, total + 1):
+        for rest in sums(total - number, number):
+            yield (number,) + rest

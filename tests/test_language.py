@@ -51,9 +51,23 @@ OUTSIDE = [
     ("L22", "def one(two):\n    three = len\n    return three(two)\n"),
     ("L22", "def one(two):\n    return sorted(two, key=list)\n"),
     ("L23", "def one(two):\n    three = zip(two, two)\n    return list(three)\n"),
+    ("L24", "def one(two):\n    three = set(two)\n    return sorted(three)\n"),
+    ("L24", "def one(two):\n    return set(two)\n"),
+    ("L24", "def one(two):\n    return [three for three in set(two)]\n"),
+    ("L24", "def one(two):\n    return list(set(two))\n"),
+    ("L24", "def one(two):\n    return set(two) == two\n"),
+    ("L24", "def one(two):\n    return sorted(set(two) - two)\n"),
+    ("L24", "def one(two):\n    return sorted(set(two), reverse=True)\n"),
     ("L25", "def one(two):\n    return two.sort()\n"),
     ("L27", "ONE = '%'\n"),
     ("L27", "def one(two):\n    return 2 ** two\n"),
+]
+
+WITHIN = [
+    "def one(two):\n    return sorted(set(two))\n",
+    "def one(two, three):\n    return sorted(set(two) - set(three))\n",
+    "def one(two, three):\n    return len(set(two) & set(three) | set(two))\n",
+    "def one(two, three):\n    return two in set(three) or set(two) == set(three)\n",
 ]
 
 
@@ -84,6 +98,11 @@ class Language(unittest.TestCase):
             with self.subTest(rule=rule, text=text):
                 found = [finding for finding in findings(text, FILES, OWN_ERRORS) if rule in finding.split()]
                 self.assertNotEqual(found, [])
+
+    def test_what_lies_within_is_not_found(self):
+        for text in WITHIN:
+            with self.subTest(text=text):
+                self.assertEqual(findings(text, FILES, OWN_ERRORS), [])
 
     def test_file_names_that_are_not_used_are_found(self):
         for stem in ["Sheets", "test_sheets", "tests", "site", "sum", "enum", "_own", "sheets-old"]:

@@ -3,55 +3,10 @@ import unittest
 from stampsheet.errors import NoNumber, NoSheet
 from stampsheet.pieces import counts, is_piece, pieces
 from tests.plain import all_patterns, choices, hang_together, plain_stamps
-from tests.samples import APART, EqualToAll, ENDS, HUGE, NINE, NO_NUMBERS, NO_SHEETS, OF_ANY_KIND, ONE
+from tests.samples import APART, ENDS, NINE, NO_NUMBERS, NO_PIECES_OF_SQUARE, NO_SHEETS, ONE
 from tests.samples import RING, ROW, SHEETS, SPREAD, SQUARE, TWELVE
 
 SMALL_SIZES = [(1, 1), (1, 5), (5, 1), (2, 2), (2, 3), (3, 2), (2, 4), (4, 2), (3, 3)]
-
-NO_PIECES_OF_SQUARE = OF_ANY_KIND + [
-    ((0, 1), (0, 0)),
-    ((1, 0), (0, 0)),
-    ((0, 0), (1, 0), (0, 1)),
-    ((0, 0), (0, 0)),
-    ((0, 0), (0, 1), (0, 1)),
-    ((0, 0), (0, 0), (0, 1)),
-    ((0, 1), (0, 2)),
-    ((1, 0), (2, 0)),
-    ((2, 0),),
-    ((-1, 0), (0, 0)),
-    ((0, -1), (0, 0)),
-    ((0, 0), (0, HUGE)),
-    ((0, 0), (1, 1)),
-    ((0, 1), (1, 0)),
-    [(0, 0), (0, 1)],
-    [(0, 0)],
-    (0, 0),
-    (0, 1),
-    ((0, 0, 0),),
-    ((0, 0), (0, 1, 0)),
-    ((0,),),
-    ([0, 0],),
-    ((0, 0), [0, 1]),
-    ((0, True),),
-    ((False, 0),),
-    ((0, 0), (0, True)),
-    ((0, 0), (True, 0)),
-    ((0, 0.0),),
-    ((0, 0), (0, 1.0)),
-    ("00",),
-    ("00", "01"),
-    (("0", "0"),),
-    ((0, 0), "01"),
-    ((0, 0), None),
-    ((0, 0), (0, None)),
-    ((0, 0), (0, [1])),
-    ((0, 0), EqualToAll()),
-    ((0, 0), (0, EqualToAll())),
-    {(0, 0): True},
-    {(0, 0)},
-    (((0, 0),),),
-    ((0, 0),) * 1000,
-]
 
 
 class IsPiece(unittest.TestCase):
