@@ -1,6 +1,6 @@
 """What the document says, searched for in the plainest way, to compare with."""
 
-from functools import cache
+from functools import cache, cmp_to_key
 from itertools import combinations, count, product
 
 
@@ -117,3 +117,72 @@ def sums(total, least=1):
     for number in range(least, total + 1):
         for rest in sums(total - number, number):
             yield (number,) + rest
+
+
+def plain_runs(row):
+    """The worths of a strip: of what lies between any two of its edges."""
+    return {sum(row[start:end]) for start, end in combinations(range(len(row) + 1), 2)}
+
+
+def plain_rows(many, reach):
+    """All rows of so many stamps, none worth more than the reach, that have all worths up to it, in order."""
+    for row in product(range(1, reach + 1), repeat=many):
+        if plain_runs(row).issuperset(range(1, reach + 1)):
+            yield row
+
+
+def plain_moved(sheet, rows, columns, where):
+    """A sheet of this size; where tells for each of its cells the one that its place comes from."""
+    return tuple(
+        tuple(sheet[where(row, column)[0]][where(row, column)[1]] for column in range(columns))
+        for row in range(rows)
+    )
+
+
+def plain_eight(sheet):
+    """All eight, written out: the sheet as it is and on its side, each with rows or columns from behind."""
+    rows = len(sheet)
+    columns = len(sheet[0])
+    low = rows - 1
+    right = columns - 1
+    return [
+        plain_moved(sheet, rows, columns, lambda row, column: (row, column)),
+        plain_moved(sheet, rows, columns, lambda row, column: (row, right - column)),
+        plain_moved(sheet, rows, columns, lambda row, column: (low - row, column)),
+        plain_moved(sheet, rows, columns, lambda row, column: (low - row, right - column)),
+        plain_moved(sheet, columns, rows, lambda row, column: (column, row)),
+        plain_moved(sheet, columns, rows, lambda row, column: (column, right - row)),
+        plain_moved(sheet, columns, rows, lambda row, column: (low - column, row)),
+        plain_moved(sheet, columns, rows, lambda row, column: (low - column, right - row)),
+    ]
+
+
+def compared(one, other):
+    """Below 0 if the one comes first, above 0 if the other does."""
+    if len(one) != len(other):
+        return len(one) - len(other)
+    for row in range(len(one)):
+        for column in range(len(one[0])):
+            here = one[row][column]
+            there = other[row][column]
+            if here != there:
+                if here is None:
+                    return -1
+                if there is None:
+                    return 1
+                return here - there
+    return 0
+
+
+def plain_least(sheet):
+    return sorted(plain_eight(sheet), key=cmp_to_key(compared))[0]
+
+
+def plain_shown(sheet):
+    text = ""
+    for row in sheet:
+        for column, place in enumerate(row):
+            text += " " if column else ""
+            text += "." if place is None else f"{place:d}"
+        text += "\n"
+    return text

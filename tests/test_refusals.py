@@ -1,16 +1,20 @@
-"""Where several refusals fit, it is the one that is named first: for every function with several arguments."""
+"""What each function of the program refuses, by which refusal, and by which one where several fit: that named first."""
 
 import unittest
 from itertools import product
 
 from stampsheet.changes import changed, gone_and_come
-from stampsheet.errors import NoCell, NoNumber, NoPiece, NoSheet, NoWants
-from stampsheet.pieces import pieces
-from stampsheet.sheets import near
+from stampsheet.errors import NoCell, NoNumber, NoPiece, NoSheet, NoText, NoWants
+from stampsheet.pieces import counts, is_piece, pieces
+from stampsheet.sheets import checked, near, stamps
+from stampsheet.strips import best_strip
 from stampsheet.tearing import fair, fewest_tears, tears, torn
-from stampsheet.worths import piece_for, worth, worths, first_missing
+from stampsheet.texts import read, shown
+from stampsheet.turns import alike, least, mirrored, turned
+from stampsheet.worths import first_missing, needless, piece_for, worth, worths
 from tests.samples import NO_CELLS_OF_APART, NO_NUMBERS, NO_PARTS_OF_SQUARE, NO_PIECES_OF_SQUARE, NO_SHEETS
-from tests.samples import NO_WANTS, NO_WORTHS, NOT_FROM_1_ON, SQUARE
+from tests.samples import NO_WANTS, NO_WORTHS, NOT_FROM_1_ON, OF_ANY_KIND, SQUARE
+from tests.test_interface import FUNCTIONS
 
 # What is refused whatever the sheet, and with what; the first of each is what is handed in rightly.
 SHEET = (NoSheet, SQUARE, [None, [], (), ((True,),), [SQUARE], "1", 1])
@@ -21,31 +25,53 @@ MOST = (NoNumber, 12, [None, 0, 13, True, "1", [1], 1.0])
 NUMBER = (NoNumber, 5, [None, 0, -1, True, "1", [1], 1.0])
 WORTH = (NoNumber, 5, [None, 0, 10000, True, "1", [1], 1.0])
 WANTS = (NoWants, [10], [None, [], (10,), [0], [True], ["10"], [1] * 13, 10, "10"])
+STRIP = (NoNumber, 4, [None, 0, 5, -1, True, "1", [1], 1.0, SQUARE])
+TEXT = (NoText, "1\n", [None, "", "1", "0\n", "01\n", "1\n\n", b"1\n", ["1\n"], ("1\n",), 1, SQUARE])
+# Whatever is asked whether it is a piece, nothing but the sheet is refused.
+ANYTHING = (None, ((0, 0),), [])
 
 CALLS = [
+    (checked, [SHEET]),
+    (stamps, [SHEET]),
     (near, [SHEET, CELL]),
+    (is_piece, [SHEET, ANYTHING]),
     (pieces, [SHEET, MOST]),
+    (counts, [SHEET]),
     (worth, [SHEET, PIECE]),
     (worths, [SHEET, MOST]),
     (first_missing, [SHEET, MOST]),
     (piece_for, [SHEET, NUMBER]),
+    (needless, [SHEET]),
     (changed, [SHEET, CELL, WORTH]),
     (gone_and_come, [SHEET, MOST, CELL, WORTH]),
     (torn, [SHEET, WANTS]),
     (fewest_tears, [SHEET, WANTS]),
     (tears, [SHEET, PARTS]),
     (fair, [SHEET, MOST]),
+    (best_strip, [STRIP]),
+    (turned, [SHEET]),
+    (mirrored, [SHEET]),
+    (least, [SHEET]),
+    (alike, [SHEET, SHEET]),
+    (shown, [SHEET]),
+    (read, [TEXT]),
 ]
 
 # All wrong things of a kind, each behind a sheet that is none.
 BEHIND_NO_SHEET = [
     (near, NO_CELLS_OF_APART), (pieces, NO_NUMBERS), (worth, NO_PIECES_OF_SQUARE), (worths, NO_NUMBERS),
     (first_missing, NO_NUMBERS), (piece_for, NOT_FROM_1_ON), (torn, NO_WANTS), (fewest_tears, NO_WANTS),
-    (tears, NO_PARTS_OF_SQUARE), (fair, NO_NUMBERS),
+    (tears, NO_PARTS_OF_SQUARE), (fair, NO_NUMBERS), (is_piece, OF_ANY_KIND), (alike, NO_SHEETS),
 ]
 
 
 class Refusals(unittest.TestCase):
+    def test_no_function_is_left_out(self):
+        self.assertEqual(sorted(call.__name__ for call, arguments in CALLS), sorted(FUNCTIONS))
+        for call, arguments in CALLS:
+            with self.subTest(call=call.__name__):
+                self.assertEqual(call.__code__.co_argcount, len(arguments))
+
     def test_the_first_that_fits(self):
         for call, arguments in CALLS:
             for wrong in product((False, True), repeat=len(arguments)):
@@ -91,12 +117,17 @@ class Refusals(unittest.TestCase):
         endless = []
         endless.append(endless)
         for call, refusal in [(torn, NoWants), (fewest_tears, NoWants), (tears, NoPiece), (worth, NoPiece),
-                              (piece_for, NoNumber), (worths, NoNumber), (fair, NoNumber)]:
+                              (piece_for, NoNumber), (worths, NoNumber), (fair, NoNumber), (alike, NoSheet)]:
             with self.subTest(call=call.__name__):
                 with self.assertRaises(refusal):
                     call(SQUARE, endless)
                 with self.assertRaises(NoSheet):
                     call(endless, endless)
+        for call, refusal in [(turned, NoSheet), (mirrored, NoSheet), (least, NoSheet), (shown, NoSheet),
+                              (read, NoText), (best_strip, NoNumber)]:
+            with self.subTest(call=call.__name__):
+                with self.assertRaises(refusal):
+                    call(endless)
 
 
 if __name__ == "__main__":

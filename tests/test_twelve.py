@@ -7,6 +7,8 @@ from stampsheet.changes import changed, gone_and_come
 from stampsheet.pieces import counts, is_piece, pieces
 from stampsheet.sheets import checked, near, stamps
 from stampsheet.tearing import fair, fewest_tears, tears, torn
+from stampsheet.texts import read, shown
+from stampsheet.turns import alike, least, mirrored, turned
 from stampsheet.worths import first_missing, needless, piece_for, worth, worths
 from tests.plain import sums
 from tests.samples import HUGE, TWELVE
@@ -33,8 +35,10 @@ class Twelve(unittest.TestCase):
     def test_every_function(self):
         for sheet in (TWELVE, ONES, TWOS, LARGE):
             with self.subTest(sheet=sheet):
-                for call in (checked, stamps, counts, needless):
+                for call in (checked, stamps, counts, needless, turned, mirrored, least):
                     self.in_time(call, sheet)
+                self.assertIs(self.in_time(alike, sheet, turned(sheet)), True)
+                self.assertEqual(self.in_time(read, self.in_time(shown, sheet)), sheet)
                 for call in (pieces, worths, first_missing, fair):
                     for many in range(1, 13):
                         self.in_time(call, sheet, many)

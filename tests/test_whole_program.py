@@ -9,7 +9,10 @@ from stampsheet.changes import changed, gone_and_come
 from stampsheet.errors import SheetError
 from stampsheet.pieces import counts, is_piece, pieces
 from stampsheet.sheets import checked, near, stamps
+from stampsheet.strips import best_strip
 from stampsheet.tearing import fair, fewest_tears, tears, torn
+from stampsheet.texts import read, shown
+from stampsheet.turns import alike, least, mirrored, turned
 from stampsheet.worths import first_missing, needless, piece_for, worth, worths
 from tests.samples import SHEETS, SQUARE
 
@@ -34,6 +37,9 @@ def answers(sheet):
     told.extend([gone_and_come(sheet, 12, first_cell(sheet), number) for number in (1, 5)])
     told.extend([call(sheet, wants) for call in (torn, fewest_tears) for wants in (single_wants(sheet), [1])])
     told.append(tears(sheet, [(cell,) for cell in stamps(sheet)]))
+    told.extend([turned(sheet), mirrored(sheet), least(sheet), shown(sheet), read(shown(sheet))])
+    told.extend([alike(sheet, other) for other in (sheet, turned(sheet), SQUARE)])
+    told.append(best_strip(min(4, len(stamps(sheet)))))
     return told
 
 
@@ -67,6 +73,10 @@ class WatchedList(list):
     """Takes its token along when it goes."""
 
 
+class WatchedText(str):
+    """Takes its token along when it goes."""
+
+
 def watched(thing, watchers):
     thing.token = Token()
     watchers.append(weakref.ref(thing.token))
@@ -95,9 +105,15 @@ class WholeProgram(unittest.TestCase):
 
     def test_true_is_no_number_even_after_the_equal_sheet_was_asked(self):
         self.assertEqual(counts(((1, 1),)), [2, 1])
-        for call in (checked, stamps, counts):
+        ones = ((1, 1),)
+        for call in (checked, stamps, counts, needless, turned, mirrored, least, shown):
+            call(ones)
             with self.assertRaises(SheetError):
                 call(((1, True),))
+        self.assertIs(alike(ones, ones), True)
+        for one, other in [(ones, ((1, True),)), (((True, 1),), ones), (((1, True),), ((1, True),))]:
+            with self.assertRaises(SheetError):
+                alike(one, other)
         self.assertEqual(near(SQUARE, (0, 1)), [(0, 0), (1, 1)])
         with self.assertRaises(SheetError):
             near(SQUARE, (0, True))
@@ -120,6 +136,8 @@ class WholeProgram(unittest.TestCase):
             (lambda number: fewest_tears(SQUARE, [9, number]), 1),
             (lambda number: tears(SQUARE, [((0, 0), (0, 1), (1, 0), (1, number))]), 1),
             (lambda number: fair(SQUARE, number), 1),
+            (best_strip, 1),
+            (lambda number: read(f"{number}\n"), 1),
             (lambda number: worth(SQUARE, ((number, 0),)), 0),
             (lambda number: changed(SQUARE, (number, 0), 1), 0),
             (lambda number: tears(SQUARE, [((number, 0), (0, 1), (1, 0), (1, 1))]), 0),
@@ -144,6 +162,8 @@ class WholeProgram(unittest.TestCase):
             lambda: changed(SQUARE, (0, 0), cells), lambda: gone_and_come(SQUARE, 12, cells[0], 5),
             lambda: torn(SQUARE, cells), lambda: fewest_tears(SQUARE, cells), lambda: tears(SQUARE, cells),
             lambda: fair(SQUARE, cells),
+            lambda: turned(rows), lambda: mirrored(rows), lambda: least(rows), lambda: alike(rows, SQUARE),
+            lambda: alike(SQUARE, rows), lambda: shown(rows), lambda: read(rows), lambda: best_strip(rows),
         ):
             with self.assertRaises(SheetError):
                 call()
@@ -173,6 +193,7 @@ class WholeProgram(unittest.TestCase):
         piece = watched(WatchedTuple(((0, 0), (0, 1))), watchers)
         wants = watched(WatchedList([3, 7]), watchers)
         parts = watched(WatchedList([piece, ((1, 0), (1, 1))]), watchers)
+        text = watched(WatchedText("1 2\n3 4\n"), watchers)
         wrong = watched(WatchedList([(1, 2), (3, 4)]), watchers)
         answers(sheet)
         near(sheet, cell)
@@ -183,18 +204,20 @@ class WholeProgram(unittest.TestCase):
         self.assertEqual(torn(sheet, wants), parts)
         self.assertEqual(fewest_tears(sheet, wants), 2)
         self.assertEqual(tears(sheet, parts), 2)
+        self.assertEqual(read(text), sheet)
+        self.assertIs(alike(sheet, sheet), True)
         self.assertIs(is_piece(sheet, wrong), False)
-        for call in (checked, stamps, counts, needless):
+        for call in (checked, stamps, counts, needless, turned, mirrored, least, shown, read, best_strip):
             self.assertRaises(SheetError, call, wrong)
-        for call in (near, pieces, worth, worths, first_missing, piece_for, torn, fewest_tears, tears, fair):
+        for call in (near, pieces, worth, worths, first_missing, piece_for, torn, fewest_tears, tears, fair, alike):
             self.assertRaises(SheetError, call, sheet, wrong)
         self.assertRaises(SheetError, changed, sheet, wrong, 5)
         self.assertRaises(SheetError, changed, sheet, cell, wrong)
         self.assertRaises(SheetError, gone_and_come, sheet, wrong, cell, 5)
         self.assertNotIn(None, [watcher() for watcher in watchers])
-        del sheet, cell, piece, wants, parts, wrong
+        del sheet, cell, piece, wants, parts, text, wrong
         gc.collect()
-        self.assertEqual([watcher() for watcher in watchers], [None] * 6)
+        self.assertEqual([watcher() for watcher in watchers], [None] * 7)
 
 
 if __name__ == "__main__":
